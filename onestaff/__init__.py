@@ -1,0 +1,1 @@
+"""Onestaff: one line of rails, and what lets a train in."""
