@@ -21,16 +21,20 @@ def chance_line(chance):
     return Line(places, stretches, longs)
 
 
-def chance_day(chance):
-    """A train may be called like a place."""
+def chance_start(chance, most=4):
+    """A line, trains and ends; a train may be called like a place."""
     line = chance_line(chance)
     trains = []
-    for train in chance.sample(["a", "b", "x", "y", "z"], chance.randint(1, 4)):
+    for train in chance.sample(["a", "b", "x", "y", "z"], chance.randint(1, most)):
         free = [name for name in line.names() if len([1 for _, at in trains if at == name]) < line.roads(name)]
         if free:
             trains.append((train, chance.choice(free)))
     ends = [chance.choice(line.ends(k)) for k in range(line.many_stretches())]
-    return Day(line, trains, chance.choice([None, ends]))
+    return line, trains, chance.choice([None, ends])
+
+
+def chance_day(chance):
+    return Day(*chance_start(chance))
 
 
 def chance_deed(day, chance):
