@@ -34,6 +34,10 @@ class Day:
         """The place in whose book the deed would be written, None for a lost word; refuses as it is refused."""
         return written_at(self._scene, deed)
 
+    def begun(self):
+        """The trains and the ends with which the day began, two lists."""
+        return list(self._starts), list(self._ends)
+
     def line(self):
         return self._line
 

@@ -1,6 +1,7 @@
 """A line as a text: a row of words for each place, then for each stretch, then for each long stretch."""
 
 from onestaff.errors import NoText
+from onestaff.forms import rows_of
 from onestaff.lines import Line
 from onestaff.words import is_name
 
@@ -25,13 +26,6 @@ def read_line(text):
             raise NoText(number)
         ahead = sort
     return line_of_rows(rows)
-
-
-def rows_of(text):
-    if not isinstance(text, str):
-        raise NoText(0)
-    # The text without signs has no rows, though a split would tell an empty one.
-    return text.split("\n") if text else []
 
 
 def line_sort(row):
